@@ -1,7 +1,7 @@
 """Matters: the cases with their chances, and what each act is worth to both parties in each case."""
 
 from saywhat.errors import BadMatter
-from saywhat.ratios import is_integer_within
+from saywhat.exact import is_integer_within
 
 FEWEST_CASES = 2
 MOST_CASES = 4
@@ -85,3 +85,8 @@ def check_matter(matter):
     """Refuse what is no Matter."""
     if not isinstance(matter, Matter):
         raise BadMatter(None)
+
+
+def number_of_acts(matter):
+    """Return how many acts a matter has."""
+    return len(matter.gains[0])

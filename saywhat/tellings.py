@@ -2,7 +2,7 @@
 
 from saywhat.errors import BadTable
 from saywhat.matters import check_matter
-from saywhat.ratios import are_one_together, common_under, is_chance, ratio, scaled
+from saywhat.exact import are_one_together, common_under, is_chance, ratio, scaled
 
 MOST_WORDS = 4
 

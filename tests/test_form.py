@@ -12,8 +12,8 @@ LIBRARY = {"math": {"gcd", "lcm", "isqrt", "comb", "perm", "factorial"},
            "heapq": {"heappush", "heappop", "heapify", "heapreplace", "heappushpop"},
            "itertools": {"product", "combinations", "permutations"}}
 BUILTINS = set("""len range enumerate zip min max sum abs sorted reversed int str bool bytes list tuple dict set
-    frozenset isinstance ord repr any all divmod property super staticmethod classmethod Exception ValueError TypeError
-    KeyError IndexError LookupError ZeroDivisionError NotImplemented""".split())
+    frozenset isinstance ord repr any all divmod iter property super staticmethod classmethod Exception ValueError
+    TypeError KeyError IndexError LookupError ZeroDivisionError NotImplemented""".split())
 
 
 def trees():
@@ -27,7 +27,7 @@ def imports_of(tree):
 class TestForm(unittest.TestCase):
     def test_the_package_is_there(self):
         names = {path.stem for path in FILES}
-        self.assertLessEqual({"__init__", "errors", "matters", "tellings"}, names)
+        self.assertLessEqual({"__init__", "errors", "matters", "tellings", "best", "few", "signs"}, names)
 
     def test_characters_and_sizes(self):
         for path in FILES:
@@ -72,7 +72,8 @@ class TestForm(unittest.TestCase):
                     self.assertNotIsInstance(node, (ast.Div, ast.GeneratorExp, ast.Global, ast.AsyncFunctionDef))
                     if isinstance(node, ast.Constant):
                         self.assertNotIsInstance(node.value, (float, complex))
-                    if isinstance(node, ast.Name) and hasattr(builtins, node.id):
+                    # A doctest that ran before leaves its last answer among the builtins, as _.
+                    if isinstance(node, ast.Name) and hasattr(builtins, node.id) and node.id != "_":
                         self.assertIn(node.id, BUILTINS)
 
 

@@ -7,6 +7,7 @@ import random
 import unittest
 from fractions import Fraction
 
+from looks import ALWAYS, COURT, HALF, NEVER, THIRD, pair, some_matter
 from saywhat import tellings
 from saywhat.matters import Matter
 from saywhat.tellings import acts_after, beliefs, gain_of, silent_table, swerves, whole_table, worth_of
@@ -20,14 +21,6 @@ EXAMPLE = """
 >>> [beliefs(court, table), acts_after(court, table), worths, gain_of(court, table), swerves(court, table)]
 [[((1, 1), (0, 1)), ((1, 2), (1, 2))], [0, 1], [(0, 1), (1, 3), (2, 3)], (2, 3), {(0, 1): (1, 3), (1, 0): (0, 1)}]
 """
-
-NEVER, ALWAYS, HALF, THIRD = (0, 1), (1, 1), (1, 2), (1, 3)
-COURT = Matter((2, 1), ((1, 0), (0, 1)), ((0, 1), (0, 1)))
-
-
-def pair(number):
-    """The fraction as the document writes it."""
-    return (number.numerator, number.denominator)
 
 
 class Look:
@@ -67,14 +60,6 @@ def expected(matter, table):
         "gain_of": pair(sum(look.chance * look.gains[look.act] for _, look in said)),
         "swerves": lost,
     }, looks
-
-
-def some_matter(chance, cases, acts, widest):
-    """A matter; with small numbers, equal averages are frequent."""
-    parts = tuple(chance.randint(1, 6) for _ in range(cases))
-    gains = tuple(tuple(chance.randint(-widest, widest) for _ in range(acts)) for _ in range(cases))
-    worths = tuple(tuple(chance.randint(0, widest) for _ in range(acts)) for _ in range(cases))
-    return Matter(parts, gains, worths)
 
 
 def some_row(chance, words, silent):
