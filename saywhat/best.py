@@ -2,18 +2,27 @@
 
 from saywhat.exact import Frame, Search
 from saywhat.matters import check_matter, number_of_acts
+from saywhat.tellings import table_of, told_by
+
+
+def reading_frame(matter, reading, barred):
+    """Return what can be told if each word calls for an act, to be no worse for the hearer than any other one.
+
+    A reading is a tuple with an act for each word; barred are the pairs of a word and a case without it.
+    """
+    pays = {}
+    demands = {}
+    for word, act in enumerate(reading):
+        pays[word] = [row[act] for row in matter.worths]
+        for other in range(number_of_acts(matter)):
+            if other != act:
+                demands[(word, other)] = [row[act] - row[other] for row in matter.gains]
+    return Frame(matter.parts, pays, demands, 1, barred)
 
 
 def advice_frame(matter):
-    """Return what an advice can tell: all acts, each to be no worse for the hearer than any other one."""
-    acts = range(number_of_acts(matter))
-    pays = {act: [row[act] for row in matter.worths] for act in acts}
-    demands = {}
-    for act in acts:
-        for other in acts:
-            if other != act:
-                demands[(act, other)] = [row[act] - row[other] for row in matter.gains]
-    return Frame(matter.parts, pays, demands, 1)
+    """Return what an advice can tell: each word calls for the act with its number."""
+    return reading_frame(matter, tuple(range(number_of_acts(matter))), ())
 
 
 def is_for_acts(matter, table):
@@ -23,16 +32,10 @@ def is_for_acts(matter, table):
     return all([isinstance(row, tuple) and len(row) == number_of_acts(matter) for row in table])
 
 
-def told_by(table):
-    """Return an advice as a dict from acts to a tuple with a chance for each case."""
-    return {act: tuple([row[act] for row in table]) for act in range(len(table[0]))}
-
-
 def advice_of(matter, told):
     """Return a dict from some acts to a tuple with a chance for each case as an advice."""
     nothing = tuple([(0, 1) for _ in matter.parts])
-    columns = [told.get(act, nothing) for act in range(number_of_acts(matter))]
-    return tuple([tuple([column[case] for column in columns]) for case in range(len(matter))])
+    return table_of([told.get(act, nothing) for act in range(number_of_acts(matter))])
 
 
 class Best:

@@ -16,6 +16,20 @@ def is_integer_within(value, least, most):
     return is_plain_integer(value) and least <= value <= most
 
 
+def is_row_within(row, length, least, most):
+    """Tell whether a row is a tuple of this length, with integers from least to most."""
+    if not isinstance(row, tuple) or len(row) != length:
+        return False
+    return all([is_integer_within(number, least, most) for number in row])
+
+
+def is_ascending_within(row, least, most):
+    """Tell whether a row is an ascending tuple of one or more integers from least to most."""
+    if not isinstance(row, tuple) or not row or not is_row_within(row, len(row), least, most):
+        return False
+    return all([number < later for number, later in zip(row, row[1:])])
+
+
 def is_of_integers(value):
     """Tell whether a value is an integer, or a tuple of such values."""
     return is_plain_integer(value) or isinstance(value, tuple) and all([is_of_integers(item) for item in value])
@@ -44,6 +58,15 @@ def are_ratios(row, length):
 def is_less(first, second):
     """Tell whether the first fraction is less than the second one."""
     return first[0] * second[1] < second[0] * first[1]
+
+
+def first_greatest(ratios):
+    """Return the first key of a dict with the greatest fraction; keys with None are passed over."""
+    found = None
+    for key, value in ratios.items():
+        if value is not None and (found is None or is_less(ratios[found], value)):
+            found = key
+    return found
 
 
 def ratio(over, under):
@@ -82,14 +105,21 @@ class Frame:
 
     The portions are the parts of the cases. Pays is a dict from all words, and demands from tuples whose first item is
     a word, to a list with an integer for each case. A demand is met if its integers, multiplied by the chances of the
-    cases together with its word, are at least 0 together. All integers in both dicts are multiplied by the scale.
+    cases together with its word, are at least 0 together. All integers in both dicts are multiplied by the scale. A
+    word cannot be told in a case if the barred pairs have both.
     """
 
-    def __init__(self, portions, pays, demands, scale):
+    def __init__(self, portions, pays, demands, scale, barred=()):
         self.portions = portions
         self.pays = pays
         self.demands = demands
         self.scale = scale
+        self.barred = barred
+
+    def places(self, words):
+        """Return a list of the pairs of one of these words and a case in which it can be told."""
+        pairs = [(word, case) for word in words for case in range(len(self.portions))]
+        return [pair for pair in pairs if pair not in self.barred]
 
     def _is_telling(self, told):
         """Tell whether a dict from words has a chance for each case, 1 together in each."""
@@ -99,6 +129,8 @@ class Frame:
         if not all([are_ratios(row, len(self.portions)) for row in rows]):
             return False
         if not all([is_chance(share) for row in rows for share in row]):
+            return False
+        if not all([told[word][case] == (0, 1) for word, case in self.barred if word in told]):
             return False
         return all([are_one_together([row[case] for row in rows]) for case in range(len(self.portions))])
 
@@ -130,7 +162,7 @@ class Frame:
         return all([is_ratio(weight) and weight[0] >= 0 for weight in weights.values()])
 
     def is_covered(self, prices, weights, words):
-        """Tell whether each case has a price that covers what each of these words pays there, with its weights."""
+        """Tell whether the price of each case covers what each of these words pays if told there, with its weights."""
         if not are_ratios(prices, len(self.portions)) or not self._are_weights(weights):
             return False
         common = common_under(list(prices) + list(weights.values()))
@@ -140,7 +172,7 @@ class Frame:
             if demand[0] in charges:
                 added = [scaled(weight, common) * value for value in self.demands[demand]]
                 charges[demand[0]] = [left + right for left, right in zip(charges[demand[0]], added)]
-        return all([cost >= charge for row in charges.values() for cost, charge in zip(costs, row)])
+        return all([costs[case] >= charges[word][case] for word, case in self.places(words)])
 
     def cost(self, prices):
         """Return the average of the prices of all cases."""
@@ -236,7 +268,7 @@ class Search:
     def __init__(self, frame, words):
         self._frame = frame
         self._words = words
-        self._places = [(word, case) for word in words for case in range(len(frame.portions))]
+        self._places = frame.places(words)
         self._claims = [demand for demand in frame.demands if demand[0] in words]
         self._tableau = Tableau(self._limits(), self._goals())
         told_part, _ = self._tableau.reached()
@@ -261,11 +293,11 @@ class Search:
     def _found(self):
         """Return the telling: a dict from all words to a tuple with a chance for each case."""
         amounts = self._tableau.amounts()
-        told = {word: () for word in self._words}
+        rows = {word: [(0, 1) for _ in self._frame.portions] for word in self._words}
         for variable, (word, case) in enumerate(self._places):
             whole = self._frame.portions[case] * self._tableau.divisor
-            told[word] = told[word] + (ratio(amounts.get(variable, 0), whole),)
-        return told
+            rows[word][case] = ratio(amounts.get(variable, 0), whole)
+        return {word: tuple(row) for word, row in rows.items()}
 
     def _stake(self, goal):
         """Return a stake by which no exchange helps, and the prices are below the goal if something stays untold."""

@@ -1,9 +1,10 @@
 """Few words: the fewest acts that an advice needs to reach a goal, with bounds that show that fewer do not."""
 
-from saywhat.best import advice_frame, advice_of, is_for_acts, told_by
+from saywhat.best import advice_frame, advice_of, is_for_acts
 from saywhat.errors import BadActs, BadGoal
-from saywhat.exact import Search, is_integer_within, is_less, is_ratio
+from saywhat.exact import Search, is_ascending_within, is_less, is_ratio
 from saywhat.matters import check_matter, number_of_acts
+from saywhat.tellings import told_by
 
 LEAST_GOAL = (0, 1)
 GREATEST_GOAL = (9, 1)
@@ -22,11 +23,7 @@ def _sets_of_acts(matter):
 
 def _is_set_of_acts(matter, acts):
     """Tell whether a value is an ascending tuple of one or more acts."""
-    if not isinstance(acts, tuple) or not acts:
-        return False
-    if not all([is_integer_within(act, 0, number_of_acts(matter) - 1) for act in acts]):
-        return False
-    return all([act < later for act, later in zip(acts, acts[1:])])
+    return is_ascending_within(acts, 0, number_of_acts(matter) - 1)
 
 
 def _check_acts(matter, acts):
@@ -60,13 +57,18 @@ class Bound:
         return frame.is_covered(self.prices, self.weights, acts) and is_less(frame.cost(self.prices), goal)
 
 
+def _own(bound):
+    """Return a copy of a Bound: what happens to the given one later changes nothing in a Fewest that has it."""
+    return Bound(bound.prices, bound.weights) if isinstance(bound, Bound) else bound
+
+
 class Fewest:
     """A set of as few acts as reach a goal, a table within it, and a bound for each set of fewer acts."""
 
     def __init__(self, acts, table, doubts):
         self.acts = acts
         self.table = table
-        self.doubts = {fewer: doubts[fewer] for fewer in doubts}
+        self.doubts = {fewer: _own(doubts[fewer]) for fewer in doubts}
 
     def __eq__(self, other):
         return (isinstance(other, Fewest) and self.acts == other.acts

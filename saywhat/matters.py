@@ -1,7 +1,7 @@
 """Matters: the cases with their chances, and what each act is worth to both parties in each case."""
 
 from saywhat.errors import BadMatter
-from saywhat.exact import is_integer_within
+from saywhat.exact import is_row_within
 
 FEWEST_CASES = 2
 MOST_CASES = 4
@@ -15,25 +15,18 @@ LEAST_WORTH = 0
 MOST_WORTH = 9
 
 
-def _is_row(row, length, least, most):
-    """Tell whether a row is a tuple of this length, with integers from least to most."""
-    if not isinstance(row, tuple) or len(row) != length:
-        return False
-    return all([is_integer_within(number, least, most) for number in row])
-
-
 def _are_rows(rows, cases, acts, least, most):
     """Tell whether there is a row for each case, with an integer from least to most for each act."""
     if not isinstance(rows, tuple) or len(rows) != cases:
         return False
-    return all([_is_row(row, acts, least, most) for row in rows])
+    return all([is_row_within(row, acts, least, most) for row in rows])
 
 
 def _are_parts(parts):
     """Tell whether a value is the parts of a matter."""
     if not isinstance(parts, tuple) or not FEWEST_CASES <= len(parts) <= MOST_CASES:
         return False
-    return _is_row(parts, len(parts), LEAST_PART, MOST_PART)
+    return is_row_within(parts, len(parts), LEAST_PART, MOST_PART)
 
 
 def _are_gains(gains, cases):
@@ -90,3 +83,11 @@ def check_matter(matter):
 def number_of_acts(matter):
     """Return how many acts a matter has."""
     return len(matter.gains[0])
+
+
+def choices_of_acts(matter, places):
+    """Return a list of all tuples with an act for each of so many places, in order."""
+    found = [()]
+    for _ in range(places):
+        found = [acts + (act,) for acts in found for act in range(number_of_acts(matter))]
+    return found

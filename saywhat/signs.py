@@ -1,8 +1,8 @@
 """What the hearer sees itself: the best table of plans, one act for each sign that may be seen behind the word."""
 
 from saywhat.errors import BadSigns, TooLarge
-from saywhat.exact import Frame, Search, common_under, dot, is_integer_within, ratio
-from saywhat.matters import check_matter, number_of_acts
+from saywhat.exact import Frame, Search, common_under, dot, is_row_within, ratio
+from saywhat.matters import check_matter, choices_of_acts, number_of_acts
 from saywhat.tellings import worth_of
 
 FEWEST_SIGNS = 2
@@ -14,9 +14,7 @@ MOST_PLANS = 9
 
 def _are_of_case(row, many):
     """Tell whether a row is a tuple with an integer from 0 to 6 for each of so many signs, not all 0."""
-    if not isinstance(row, tuple) or len(row) != many:
-        return False
-    return all([is_integer_within(number, 0, MOST_OF_SIGN) for number in row]) and any(row)
+    return is_row_within(row, many, 0, MOST_OF_SIGN) and any(row)
 
 
 def _check_signs(matter, signs):
@@ -32,10 +30,7 @@ def _check_signs(matter, signs):
 
 def _plans(matter, signs):
     """Return a list of all plans, in order."""
-    plans = [()]
-    for _ in signs[0]:
-        plans = [plan + (act,) for plan in plans for act in range(number_of_acts(matter))]
-    return plans
+    return choices_of_acts(matter, len(signs[0]))
 
 
 def _check_size(matter, signs):

@@ -7,25 +7,25 @@ from saywhat.exact import are_one_together, common_under, is_chance, ratio, scal
 MOST_WORDS = 4
 
 
-def _are_chances(row, words):
+def are_chances(row, words):
     """Tell whether a row has a chance for each of so many words, 1 together."""
     if not isinstance(row, tuple) or len(row) != words:
         return False
     return all([is_chance(share) for share in row]) and are_one_together(row)
 
 
-def _is_table(matter, table):
+def is_table(matter, table):
     """Tell whether a value is a table for a matter."""
     if not isinstance(table, tuple) or len(table) != len(matter) or not isinstance(table[0], tuple):
         return False
     words = len(table[0])
-    return 1 <= words <= MOST_WORDS and all([_are_chances(row, words) for row in table])
+    return 1 <= words <= MOST_WORDS and all([are_chances(row, words) for row in table])
 
 
 def check_table(matter, table):
     """Refuse what is no Matter, then what is no table for it."""
     check_matter(matter)
-    if not _is_table(matter, table):
+    if not is_table(matter, table):
         raise BadTable("this is not a table for the matter")
 
 
@@ -114,6 +114,16 @@ def swerves(matter, table):
                 if act != done:
                     losses[(word, act)] = ratio(gains[done] - gain, divisor)
     return losses
+
+
+def told_by(table):
+    """Return a table as a dict from its words to a tuple with a chance for each case."""
+    return {word: tuple([row[word] for row in table]) for word in range(len(table[0]))}
+
+
+def table_of(columns):
+    """Return the table that has these words: a list with a tuple with a chance for each case."""
+    return tuple([tuple([column[case] for column in columns]) for case in range(len(columns[0]))])
 
 
 def whole_table(matter):

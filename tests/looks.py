@@ -1,4 +1,4 @@
-"""What the tests share: matters at random, and an independent look at points [4] to [6], by Python's own fractions."""
+"""What the tests share: matters at random, and an independent look at points [4] to [7], by Python's own fractions."""
 
 import itertools
 from fractions import Fraction
@@ -219,6 +219,67 @@ class Signs:
                 if price < least:
                     return False
         return True
+
+
+class Words:
+    """What point [7] says of a matter with allowed words."""
+
+    def __init__(self, matter, allowed):
+        self.matter = matter
+        self.allowed = allowed
+        self.words = range(max(word for words in allowed for word in words) + 1)
+        self.readings = list(itertools.product(acts_of(matter), repeat=len(self.words)))
+
+    def pairs(self, reading):
+        """All pairs of a word and another act than that of a reading for it."""
+        return [(word, other) for word in self.words for other in acts_of(self.matter) if other != reading[word]]
+
+    def table_rows(self, table):
+        """The chances of a table with the right number of words, None if the value is none."""
+        if type(table) is not tuple or len(table) != len(self.matter.parts):
+            return None
+        if not all(are_lowest(row, len(self.words)) for row in table):
+            return None
+        rows = [fractions(row) for row in table]
+        return None if any(sum(row) != 1 or min(row) < 0 or max(row) > 1 for row in rows) else rows
+
+    def worth(self, reading, table):
+        """The worth of a table for a reading, None if it is not kept for it."""
+        rows = self.table_rows(table)
+        if reading not in self.readings or any(type(act) is not int for act in reading) or rows is None:
+            return None
+        for case, row in enumerate(rows):
+            if any(row[word] > 0 and word not in self.allowed[case] for word in self.words):
+                return None
+        together = [[each * row[word] for each, row in zip(chances(self.matter), rows)] for word in self.words]
+        for word, other in self.pairs(reading):
+            act = reading[word]
+            if sum(each * (row[act] - row[other]) for each, row in zip(together[word], self.matter.gains)) < 0:
+                return None
+        return sum((each * row[reading[word]] for word in self.words
+                    for each, row in zip(together[word], self.matter.worths)), Fraction(0))
+
+    def holds(self, limit, reading, worth):
+        """Whether a Limit holds for a reading and a worth."""
+        if not are_lowest(limit.prices, len(self.matter.parts)) or reading not in self.readings:
+            return False
+        if not all(type(key) is tuple and all(type(item) is int for item in key) for key in limit.weights):
+            return False
+        if not set(limit.weights) <= set(self.pairs(reading)):
+            return False
+        if not all(is_lowest(weight) and weight[0] >= 0 for weight in limit.weights.values()):
+            return False
+        for case, price in enumerate(fractions(limit.prices)):
+            gains, worths = self.matter.gains[case], self.matter.worths[case]
+            for word in self.allowed[case]:
+                act = reading[word]
+                least = Fraction(worths[act])
+                for (charged, other), weight in limit.weights.items():
+                    if charged == word:
+                        least += Fraction(*weight) * (gains[act] - gains[other])
+                if price < least:
+                    return False
+        return cost(self.matter, limit.prices) <= worth
 
 
 def changed_row(chance, row):

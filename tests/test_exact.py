@@ -4,8 +4,9 @@ import random
 import unittest
 from fractions import Fraction
 
-from saywhat.exact import (Frame, Search, Tableau, are_one_together, are_ratios, common_under, dot, is_chance,
-                           is_integer_within, is_less, is_of_integers, is_ratio, ratio)
+from saywhat.exact import (Frame, Search, Tableau, are_one_together, are_ratios, common_under, dot, first_greatest,
+                           is_ascending_within, is_chance, is_integer_within, is_less, is_of_integers, is_ratio,
+                           is_row_within, ratio)
 
 
 class TestRatios(unittest.TestCase):
@@ -25,6 +26,24 @@ class TestRatios(unittest.TestCase):
     def test_is_integer_within(self):
         found = [is_integer_within(value, 0, 2) for value in (-1, 0, 1, 2, 3, True, False, "1", None, (1,))]
         self.assertEqual(found, [False, True, True, True, False, False, False, False, False, False])
+
+    def test_is_row_within(self):
+        for good in ((0, 2), (2, 0), (1, 1)):
+            self.assertIs(is_row_within(good, 2, 0, 2), True, good)
+        for wrong in ((), (1,), (1, 1, 1), (0, 3), (-1, 0), (True, 1), (1, False), [0, 1], "01", None, (0, None)):
+            self.assertIs(is_row_within(wrong, 2, 0, 2), False, wrong)
+        self.assertIs(is_row_within((), 0, 0, 2), True)
+
+    def test_is_ascending_within(self):
+        for good in ((0,), (2,), (0, 1), (0, 2), (0, 1, 2)):
+            self.assertIs(is_ascending_within(good, 0, 2), True, good)
+        for wrong in ((), (0, 0), (1, 0), (0, 2, 1), (0, 1, 2, 3), (-1,), (3,), (False,), (0, True), [0], None, "0"):
+            self.assertIs(is_ascending_within(wrong, 0, 2), False, wrong)
+
+    def test_first_greatest(self):
+        self.assertEqual(first_greatest({"a": (1, 2), "b": (2, 3), "c": (2, 3), "d": (1, 3)}), "b")
+        self.assertEqual(first_greatest({"a": None, "b": (-1, 1), "c": None}), "b")
+        self.assertEqual([first_greatest({}), first_greatest({"a": None})], [None, None])
 
     def test_ratio(self):
         self.assertEqual([ratio(6, 8), ratio(-6, 8), ratio(0, 5), ratio(9, 3)], [(3, 4), (-3, 4), (0, 1), (3, 1)])
@@ -117,6 +136,21 @@ class TestSearch(unittest.TestCase):
             prices, weights = search.proof(goal)
             self.assertIs(self.FRAME.is_covered(prices, weights, [1]), True)
             self.assertIs(is_less(self.FRAME.cost(prices), goal), True)
+
+    def test_a_word_that_is_barred_in_a_case(self):
+        frame = Frame((2, 1), self.FRAME.pays, self.FRAME.demands, 2, [(1, 0)])
+        self.assertEqual(frame.places([1, 0]), [(1, 1), (0, 0), (0, 1)])
+        search = Search(frame, [0, 1])
+        self.assertEqual((search.told, search.worth), ({0: ((1, 1), (0, 1)), 1: ((0, 1), (1, 1))}, (1, 3)))
+        prices, weights = search.proof(search.worth)
+        self.assertIs(frame.is_covered(prices, weights, [0, 1]), True)
+        self.assertEqual(frame.cost(prices), (1, 3))
+        self.assertIs(frame.is_followed({0: ((1, 2), (0, 1)), 1: ((1, 2), (1, 1))}), False)
+        self.assertIs(frame.is_followed({0: ((1, 1), (1, 2)), 1: ((0, 1), (1, 2))}), True)
+        self.assertIs(frame.is_followed({0: ((1, 1), (1, 1))}), True)
+        # What word 1 pays in case 0 needs no price there.
+        self.assertIs(frame.is_covered(((0, 1), (1, 1)), {}, [0, 1]), True)
+        self.assertIs(self.FRAME.is_covered(((0, 1), (1, 1)), {}, [0, 1]), False)
 
     def test_the_scale_changes_nothing(self):
         double = Frame((2, 1), {0: [0, 0], 1: [4, 4]}, {(0, 1): [2, -2], (1, 0): [-2, 2]}, 4)

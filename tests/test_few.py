@@ -402,6 +402,13 @@ class TestClasses(unittest.TestCase):
         found.doubts[(1,)] = bound
         self.assertEqual(doubts, {})
 
+    def test_bounds_that_are_changed_afterwards(self):
+        bound = Bound(ZEROS, {(1, 0): (2, 1)})
+        found = Fewest((0, 1), TABLE, {(0,): bound})
+        bound.prices = None
+        bound.weights.clear()
+        self.assertEqual(found.doubts, {(0,): Bound(ZEROS, {(1, 0): (2, 1)})})
+
     def test_equality_of_bounds(self):
         first = Bound(ZEROS, {(1, 0): (1, 1), (0, 1): (0, 1)})
         self.assertIs(first == Bound(ZEROS, turned(first.weights)), True)

@@ -8,9 +8,9 @@ import unittest
 
 TOP = pathlib.Path(__file__).resolve().parent.parent
 FILES = sorted((TOP / "saywhat").glob("*.py"))
+# A session is iterated over and has a length, so the products of itertools are not allowed.
 LIBRARY = {"math": {"gcd", "lcm", "isqrt", "comb", "perm", "factorial"},
-           "heapq": {"heappush", "heappop", "heapify", "heapreplace", "heappushpop"},
-           "itertools": {"product", "combinations", "permutations"}}
+           "heapq": {"heappush", "heappop", "heapify", "heapreplace", "heappushpop"}}
 BUILTINS = set("""len range enumerate zip min max sum abs sorted reversed int str bool bytes list tuple dict set
     frozenset isinstance ord repr any all divmod iter property super staticmethod classmethod Exception ValueError
     TypeError KeyError IndexError LookupError ZeroDivisionError NotImplemented""".split())
@@ -27,7 +27,8 @@ def imports_of(tree):
 class TestForm(unittest.TestCase):
     def test_the_package_is_there(self):
         names = {path.stem for path in FILES}
-        self.assertLessEqual({"__init__", "errors", "matters", "tellings", "best", "few", "signs"}, names)
+        self.assertLessEqual({"__init__", "errors", "matters", "tellings", "best", "few", "signs", "honest", "splits",
+                              "sessions", "texts"}, names)
 
     def test_characters_and_sizes(self):
         for path in FILES:

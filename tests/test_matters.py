@@ -5,7 +5,7 @@ import unittest
 
 from saywhat import matters
 from saywhat.errors import BadMatter
-from saywhat.matters import Matter
+from saywhat.matters import Matter, choices_of_acts
 from saywhat.tellings import silent_table
 
 PARTS = (2, 1)
@@ -137,6 +137,13 @@ class TestBadRows(MatterTest):
         for wrong in (True, False, None, "1", b"1", [1], (1,), {}, object()):
             self.refused_as_both(((wrong, 0), (0, 1)))
             self.refused_as_both(((1, 0), (0, wrong)))
+
+
+class TestChoices(MatterTest):
+    def test_all_tuples_in_order(self):
+        for acts, places in itertools.product((2, 3, 4), (1, 2, 3)):
+            matter = Matter(PARTS, ((0,) * acts,) * 2, ((0,) * acts,) * 2)
+            self.assertEqual(choices_of_acts(matter, places), list(itertools.product(range(acts), repeat=places)))
 
 
 class TestOrderOfErrors(MatterTest):
